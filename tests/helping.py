@@ -1,5 +1,6 @@
-"""What several tests share: memories laid out by hand or by chance, and what is told of them."""
+"""What several tests share: memories laid out by hand or by chance, what is told of them, and programs by chance."""
 from heapsafe.memory import Memory
+from heapsafe.programs import deed_read, program_read
 from heapsafe.things import pair, plain, weak
 
 NOTHING = ("nothing",)
@@ -58,3 +59,47 @@ def random_memory(chance, many):
             thing = pair(any_value([NOTHING, SEVEN]), any_value([NOTHING, SEVEN]))
         memory.put_in(thing, serial, False)
     return memory
+
+
+def deeds_of(text):
+    """A program of rows with `; ` between."""
+    return program_read(text.replace("; ", "\n"))
+
+
+def said(heap, row):
+    return heap.do(deed_read(row))
+
+
+def random_deed(chance, letters, words):
+    """A deed over some roots; make comes often enough that there are things to speak of."""
+    word = chance.choice(words)
+    root = chance.choice(letters)
+    other = chance.choice(letters)
+    third = chance.choice(letters)
+    number = chance.randint(0, 3)
+    if word in ("num", "words", "make"):
+        return (word, root, number)
+    if word == "put":
+        return (word, root, chance.randint(0, 2), other)
+    if word == "get":
+        return (word, root, other, chance.randint(0, 2))
+    if word in ("pair", "find"):
+        return (word, root, other, third)
+    if word in ("weak", "look", "copy", "same"):
+        return (word, root, other)
+    return (word, root)
+
+
+SAFE_WORDS = ("num make make make make weak weak pair pair words words put put put put put get get get find find copy copy "
+              "drop drop drop tell same").split()
+ALL_WORDS = SAFE_WORDS + ["look", "look", "look", "hear", "hear"]
+
+
+def random_program(chance, many, words, letters="abcde"):
+    return [random_deed(chance, letters, words) for number in range(many)]
+
+
+def random_cutting(chance, many):
+    often = chance.choice((0.1, 0.5, 0.9))
+    most = chance.choice((1, 2, 6))
+    return [chance.randint(1, most) if chance.random() < often else 0 for number in range(many + 1)]

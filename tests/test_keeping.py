@@ -105,6 +105,13 @@ class OpenThings(unittest.TestCase):
         heap = heap_of("make z 0; make y 0; make x 0; make w 0; copy a z; copy b w; num c 2; drop x")
         self.assertEqual(open_things(heap), [1, 2, 4])
 
+    def test_many_of_them_rise_too(self):
+        heap = heap_of("; ".join(f"make {letter} 0" for letter in "abcdefghijklmnopqrstuvwxyz"))
+        for letter in "abcdefghijklmnopqrstuvwxyz":
+            if letter not in "ahpx":
+                heap.do(("drop", letter))
+        self.assertEqual(open_things(heap), [1, 8, 16, 24])
+
     def test_the_row_to_be_heard(self):
         heap = heap_of("make a 0; words a 1; make b 0; words b 2; make c 0; words c 3; drop a; drop b")
         heap.make_due(2)

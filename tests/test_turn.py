@@ -59,6 +59,15 @@ class WrittenOut(TurnTest):
         self.assertEqual(memory.thing_at(0).fields(), [at(40)])
         self.assertEqual(memory.thing_at(20).fields(), [at(40), at(40)])
 
+    def test_what_names_a_thing_that_was_taken_out_is_blind(self):
+        memory = memory_of(weak(at(40)), pair(at(40), SEVEN), plain([], None))
+        memory.set_mark(40, True)
+        memory.take_out(40)
+        marking = Marking(memory)
+        marking.shade(0)
+        marking.shade(20)
+        self.assertEqual(turn(memory, marking, []), ("turn", [2, 3], [3], [2], [], [2, 3], [], []))
+
     def test_keys_and_fields_without_things_are_not_blind(self):
         things = [weak(NOTHING), pair(NOTHING, at(60)), pair(SEVEN, at(60)), plain([], None)]
         memory, told, heard = self.turned(things, [0, 20, 40])
