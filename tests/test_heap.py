@@ -463,6 +463,15 @@ class WantOfRoom(unittest.TestCase):
         rows = [("turn", [1], [], [], [], [1], [], []), ("freed", []), ("end",)]
         self.assert_refused(heap, "weak a a", rows + [("begin",)] + rows + [("packed",)])
 
+    def test_amid_sweeping_and_refused(self):
+        for fence in FENCES:
+            for row in ("make a 0", "weak a b", "pair b a c"):
+                heap = heap_of("make a 0; make b 0; num c 4", 2, 3, fence)
+                to_stage(heap, "sweeping")
+                heap.step()
+                rows = [("turn", [1, 2], [], [], [], [1, 2], [], []), ("freed", []), ("freed", []), ("end",)]
+                self.assert_refused(heap, row, rows[2:] + [("begin",)] + rows + [("packed",)])
+
     def test_old_garbage_of_the_round_in_hand_goes_with_the_whole_round(self):
         # 2 is black when it is forgotten: only the round behind the one in hand frees it.
         heap = heap_of("make a 0; make b 0", 1, 6)
